@@ -55,6 +55,8 @@ func show(results ...any) string {
 			for _, y := range x {
 				b.WriteString(pair(y) + ",")
 			}
+		case impl.Ground:
+			b.WriteString(showGround(x))
 		default:
 			fmt.Fprint(&b, x)
 		}
