@@ -57,6 +57,8 @@ func show(results ...any) string {
 			}
 		case impl.Ground:
 			b.WriteString(showGround(x))
+		case impl.Gather:
+			b.WriteString(showGather(x))
 		default:
 			fmt.Fprint(&b, x)
 		}
