@@ -129,14 +129,20 @@ func listsTranscript() string {
 	return b.String()
 }
 
-// A panic or a loop without an end fails these tests, too.
-func TestEqualArgumentsHaveEqualResults(t *testing.T) {
-	for _, transcript := range []func() string{numbersTranscript, complexTranscript, textsTranscript, listsTranscript} {
+// areRepeated checks that functions of equal arguments return equal results.
+func areRepeated(t *testing.T, transcripts ...func() string) {
+	t.Helper()
+	for _, transcript := range transcripts {
 		first := transcript()
 		if second := transcript(); first == "" || first != second {
 			t.Errorf("equal arguments have different results: %.200s", second)
 		}
 	}
+}
+
+// A panic or a loop without an end fails these tests, too.
+func TestEqualArgumentsHaveEqualResults(t *testing.T) {
+	areRepeated(t, numbersTranscript, complexTranscript, textsTranscript, listsTranscript)
 }
 
 func TestListsOfNumbersAreNotModified(t *testing.T) {
@@ -184,6 +190,19 @@ func spoil[T any](list []T, mark T) {
 	for i := range list {
 		list[i] = mark
 	}
+}
+
+// isAlone checks that what is told is a list of its own each time.
+func isAlone(t *testing.T, what string, tell func() ([]float32, bool)) {
+	t.Helper()
+	first, ok := tell()
+	second, _ := tell()
+	want := show(second)
+	isShown(t, what, show(len(first) > 0, ok), "true;true;")
+	spoil(first, 42)
+	isShown(t, what, show(second), want)
+	third, _ := tell()
+	isShown(t, what, show(third), want)
 }
 
 func TestResultsShareNoMemory(t *testing.T) {

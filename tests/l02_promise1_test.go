@@ -95,12 +95,7 @@ func curvesTranscript() string {
 
 // A panic or a loop without an end fails this test, too.
 func TestEqualGroundsHaveEqualResults(t *testing.T) {
-	for _, transcript := range []func() string{groundsTranscript, raysTranscript, curvesTranscript} {
-		first := transcript()
-		if second := transcript(); first == "" || first != second {
-			t.Errorf("equal arguments have different results: %.200s", second)
-		}
-	}
+	areRepeated(t, groundsTranscript, raysTranscript, curvesTranscript)
 }
 
 // callAll calls all functions with a ground.

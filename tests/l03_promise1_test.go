@@ -83,12 +83,7 @@ func countsTranscript() string {
 
 // A panic or a loop without an end fails this test, too.
 func TestEqualTracesHaveEqualResults(t *testing.T) {
-	for _, transcript := range []func() string{tracesTranscript, pairsTranscript, countsTranscript} {
-		first := transcript()
-		if second := transcript(); first == "" || first != second {
-			t.Errorf("equal arguments have different results: %.200s", second)
-		}
-	}
+	areRepeated(t, tracesTranscript, pairsTranscript, countsTranscript)
 }
 
 // callWithTraces calls all functions with traces.
@@ -165,14 +160,7 @@ func TestResultsOfTracesShareNoMemory(t *testing.T) {
 	a := coefficientsUpTo(0.3, 9, 1)
 	before := show(a)
 	for what, tell := range tracesTold(a) {
-		first, ok := tell()
-		second, _ := tell()
-		want := show(second)
-		isShown(t, what, show(len(first) > 0, ok), "true;true;")
-		spoil(first, 42)
-		isShown(t, what, show(second), want)
-		third, _ := tell()
-		isShown(t, what, show(third), want)
+		isAlone(t, what, tell)
 		isShown(t, what, show(a), before)
 	}
 	first, _ := impl.SpectrumOfTrace(a, 5)

@@ -94,12 +94,7 @@ func scansTranscript() string {
 
 // A panic or a loop without an end fails this test, too.
 func TestEqualGathersHaveEqualResults(t *testing.T) {
-	for _, transcript := range []func() string{listsTranscriptOfGathers, gathersTranscript, scansTranscript} {
-		first := transcript()
-		if second := transcript(); first == "" || first != second {
-			t.Errorf("equal arguments have different results: %.200s", second)
-		}
-	}
+	areRepeated(t, listsTranscriptOfGathers, gathersTranscript, scansTranscript)
 }
 
 // roomyGather is a copy of a gather all of whose lists have spare capacity.
@@ -242,14 +237,7 @@ func TestListsOfGathersShareNoMemory(t *testing.T) {
 		"LiveStack":    func() ([]float32, bool) { return impl.LiveStack(g) },
 		"ScanSpeeds":   func() ([]float32, bool) { return impl.ScanSpeeds(g, []float32{1, 2, 3}, 1, 2) },
 	} {
-		first, ok := tell()
-		second, _ := tell()
-		want := show(second)
-		isShown(t, what, show(len(first) > 0, ok), "true;true;")
-		spoil(first, 42)
-		isShown(t, what, show(second), want)
-		third, _ := tell()
-		isShown(t, what, show(third), want)
+		isAlone(t, what, tell)
 		isShown(t, what, show(g, list), before)
 	}
 	first, _ := impl.ShiftsOf(g, list, 3)
