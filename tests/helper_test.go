@@ -59,6 +59,8 @@ func show(results ...any) string {
 			b.WriteString(showGround(x))
 		case impl.Gather:
 			b.WriteString(showGather(x))
+		case impl.Section:
+			b.WriteString(showSection(x))
 		default:
 			fmt.Fprint(&b, x)
 		}
