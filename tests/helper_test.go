@@ -61,6 +61,12 @@ func show(results ...any) string {
 			b.WriteString(showGather(x))
 		case impl.Section:
 			b.WriteString(showSection(x))
+		case impl.Frame:
+			b.WriteString(showFrame(x))
+		case []impl.Frame:
+			for _, f := range x {
+				b.WriteString(showFrame(f) + "|")
+			}
 		default:
 			fmt.Fprint(&b, x)
 		}

@@ -111,13 +111,10 @@ func TestEqualPicturesHaveEqualResults(t *testing.T) {
 	areRepeated(t, sectionsTranscript, pathsTranscript, pathListsTranscript)
 }
 
-// Calls that are made side by side have the results that they have alone.
-func TestPicturesSideBySide(t *testing.T) {
-	s, list, times := sectionBy(9, 9, 1), pathsBy(32, 2), wavy(32, 3)
-	tell := func() string {
-		return show(impl.TimesAlong(s, list, 40)) + show(impl.PullPaths(s, list, times, 40, 0.5, 3)) +
-			show(impl.OffTimes(s, list, times, 40)) + show(impl.HitsOf(9, 9, list, 40)) + show(impl.FitSection(s, 1.3, 3))
-	}
+// areSideBySide checks that calls that are made side by side have the results that
+// they have alone.
+func areSideBySide(t *testing.T, tell func() string) {
+	t.Helper()
 	alone := tell()
 	var group sync.WaitGroup
 	for range 16 {
@@ -132,17 +129,19 @@ func TestPicturesSideBySide(t *testing.T) {
 	group.Wait()
 }
 
-// A call leaves no goroutine behind it.
-func TestPicturesEndTheirGoroutines(t *testing.T) {
+func TestPicturesSideBySide(t *testing.T) {
+	s, list, times := sectionBy(9, 9, 1), pathsBy(32, 2), wavy(32, 3)
+	areSideBySide(t, func() string {
+		return show(impl.TimesAlong(s, list, 40)) + show(impl.PullPaths(s, list, times, 40, 0.5, 3)) +
+			show(impl.OffTimes(s, list, times, 40)) + show(impl.HitsOf(9, 9, list, 40)) + show(impl.FitSection(s, 1.3, 3))
+	})
+}
+
+// endGoroutines checks that calls leave no goroutine behind them.
+func endGoroutines(t *testing.T, calls func()) {
+	t.Helper()
 	before := runtime.NumGoroutine()
-	for range 100 {
-		for _, list := range wildPathLists() {
-			impl.TimesAlong(sectionBy(4, 4, 1), list, 5)
-			impl.HitsOf(4, 4, list, 5)
-			impl.OffTimes(sectionBy(4, 4, 1), list, make([]float32, len(list)), 5)
-			impl.PullPaths(sectionBy(4, 4, 1), list, make([]float32, len(list)), 5, 1, 2)
-		}
-	}
+	calls()
 	// One that has told all may take a moment to end.
 	for range 200 {
 		if runtime.NumGoroutine() <= before {
@@ -151,6 +150,19 @@ func TestPicturesEndTheirGoroutines(t *testing.T) {
 		time.Sleep(5 * time.Millisecond)
 	}
 	t.Errorf("got %d goroutines, and %d before", runtime.NumGoroutine(), before)
+}
+
+func TestPicturesEndTheirGoroutines(t *testing.T) {
+	endGoroutines(t, func() {
+		for range 100 {
+			for _, list := range wildPathLists() {
+				impl.TimesAlong(sectionBy(4, 4, 1), list, 5)
+				impl.HitsOf(4, 4, list, 5)
+				impl.OffTimes(sectionBy(4, 4, 1), list, make([]float32, len(list)), 5)
+				impl.PullPaths(sectionBy(4, 4, 1), list, make([]float32, len(list)), 5, 1, 2)
+			}
+		}
+	})
 }
 
 // callWithSections calls all functions with sections.
