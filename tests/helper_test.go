@@ -67,6 +67,12 @@ func show(results ...any) string {
 			for _, f := range x {
 				b.WriteString(showFrame(f) + "|")
 			}
+		case []string:
+			fmt.Fprintf(&b, "%q", x)
+		case impl.Path:
+			b.WriteString(showPath(x))
+		case impl.Desk:
+			b.WriteString(showDesk(x))
 		default:
 			fmt.Fprint(&b, x)
 		}
